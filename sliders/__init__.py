@@ -1,0 +1,1 @@
+"""Linked sliders: shares that always add up to one hundred per cent."""
