@@ -86,6 +86,13 @@ def check_row(row):
         raise InvalidRowError("a row is a list of 2 to 8 integers from 1 on without a common divisor")
 
 
+def check_row_of(row, sliders):
+    """Raise InvalidRowError unless this is a row of so many sliders."""
+    check_row(row)
+    if len(row) != sliders:
+        raise InvalidRowError("the row has another number of sliders")
+
+
 def check_slider(row, slider):
     """Raise InvalidSliderError unless this is a slider of the row."""
     if not is_whole(slider) or not 0 <= slider < len(row):

@@ -1,8 +1,8 @@
 """Tables of moves, lists that do the same, and what moves forget."""
 
-from sliders.errors import InvalidNumberError, InvalidRowError
+from sliders.errors import InvalidNumberError
 from sliders.moves import are_there, check_moves, row_behind, weights_after
-from sliders.rows import FEWEST_SLIDERS, MOST_SLIDERS, check_row, common_divisor, is_row, is_whole
+from sliders.rows import FEWEST_SLIDERS, MOST_SLIDERS, check_row, check_row_of, common_divisor, is_row, is_whole
 
 
 def table_of(sliders, moves):
@@ -57,7 +57,7 @@ def forgotten(moves):
 def are_alike(row, other_row, moves):
     """Return whether moves lead two rows to the same row."""
     check_row(row)
-    check_other_row(row, other_row)
+    check_row_of(other_row, len(row))
     check_moves(moves, len(row))
     return row_behind(row, moves) == row_behind(other_row, moves)
 
@@ -66,13 +66,6 @@ def check_sliders(sliders):
     """Raise InvalidNumberError unless this is a number of sliders."""
     if not is_whole(sliders) or not FEWEST_SLIDERS <= sliders <= MOST_SLIDERS:
         raise InvalidNumberError("the number of sliders is an integer from 2 to 8")
-
-
-def check_other_row(row, other_row):
-    """Raise InvalidRowError unless the other one is a row with as many sliders."""
-    check_row(other_row)
-    if len(other_row) != len(row):
-        raise InvalidRowError("the rows have different numbers of sliders")
 
 
 def unit_weights(sliders, slider):

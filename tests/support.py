@@ -5,7 +5,7 @@ from fractions import Fraction
 from itertools import product
 from math import gcd
 
-from sliders import errors, moves, rows, tables
+from sliders import errors, lists, logs, moves, origins, plans, rows, tables
 
 BIG = 10 ** 30 + 57
 BIGGER = 10 ** 31 - 1
@@ -42,7 +42,30 @@ NOT_SHARES = NOT_INTEGERS + [
     [(1, 2), (1, 2, 1)], [(1,), (1, 2)], [(1, 2), ()], [1, 1], [None, (1, 2)],
     [(True, 2), (1, 2)], [(1, 2), (True, 2)], [(1, True), (1, 2)], [("1", 2), (1, 2)], [(1.0, 2), (1, 2)],
 ]
+NOT_LOGS = NOT_INTEGERS + [
+    0, "1:1:1", A, [T], ([1, 1, 1],), [(1, 1, 1)], ((1, 1, 1),), {0: [1, 1, 1]}, [[A]], [[]], [None], [A, None], [A, []],
+    [[1, 1]], [[1, 2], [1, 2]], [A, [1, 1]], [[1, 1], A], [A, [1, 1, 1, 1]], [[1, 1, 1, 1], A, A], [A, A, [1, 2]],
+    [[2, 4, 2]], [A, [2, 2, 2]], [[0, 1, 1]], [A, [1, -1, 1]], [[True, 1, 1]], [A, [1, 1, False]], [[1] * 9],
+    [A] * 42, [[4, 3, 2]] * 43, [A, [1, 1, "1"]], [[1.0, 1, 1]],
+]
 OTHER_LENGTHS = [[1, 1], [1, 2, 3, 4]]
+
+ENDLESS = []
+ENDLESS.append(ENDLESS)
+
+
+class Odd:
+    """A value of another kind, which claims to equal everything."""
+
+    def __eq__(self, other):
+        return True
+
+
+ANY_VALUES = NOT_ROWS + NOT_MOVES_ALONE + NOT_MOVES + NOT_LOGS + NOT_SHARES + [
+    float("nan"), 1j, "row", "\ud800", b"\xff", bytearray(b"1"), -BIG, [-1, -2, -3], {"row": [1, 1, 1]}, {1, 2}, range(3),
+    ENDLESS, [ENDLESS, 1], (ENDLESS, 1, 2), object(), Odd(), [Odd(), Odd(), Odd()], (Odd(), Odd(), Odd()), [[[[[]]]]],
+    [[[1, 1, 1]]], [(None, None)], NotImplemented, ..., type, Odd, lambda: None, errors.SliderError("words"), ValueError,
+]
 
 # For each call: the function, a good argument for each parameter, and per parameter the error and what is wrong.
 # A parameter that takes any value has no error.
@@ -51,6 +74,9 @@ MOVES = ("moves", T, errors.InvalidMovesError, NOT_THREE_MOVES)
 ANY_MOVES = ("moves", T, errors.InvalidMovesError, NOT_MOVES)
 SLIDERS = ("sliders", 3, errors.InvalidNumberError, NOT_NUMBERS_OF_SLIDERS)
 VALUE = ("value", [4, 3, 2], None, [])
+FULL_ROW = ("row", [4, 3, 2], errors.InvalidRowError, NOT_ROWS + OTHER_LENGTHS)
+OTHER_ROW = ("other_row", [5, 3, 2], errors.InvalidRowError, NOT_ROWS + OTHER_LENGTHS)
+LOG = ("log", [A, [2, 1, 1], [4, 3, 2]], errors.InvalidLogError, NOT_LOGS)
 
 
 def walked(*values, **named):
@@ -79,20 +105,48 @@ CALLS = [
     (tables.parting_row, [SLIDERS, MOVES, ("other_moves", T[::-1], errors.InvalidMovesError, NOT_THREE_MOVES)]),
     (tables.is_parting, [ANY_MOVES, ("other_moves", T[::-1], errors.InvalidMovesError, NOT_MOVES), VALUE]),
     (tables.forgotten, [ANY_MOVES]),
-    (tables.are_alike, [
+    (tables.are_alike, [ROW, OTHER_ROW, MOVES]),
+    (origins.origin_of, [ROW, MOVES]),
+    (origins.start_with, [
         ROW,
-        ("other_row", [5, 3, 2], errors.InvalidRowError, NOT_ROWS + OTHER_LENGTHS),
-        MOVES,
+        ("moves", T, errors.InvalidMovesError, NOT_THREE_MOVES + [[]]),
+        ("top", 5, errors.InvalidNumberError, NOT_INTEGERS + [0, -1, -5, 7, 8, BIG, -BIG]),
+        ("bottom", 7, errors.InvalidNumberError, NOT_INTEGERS + [0, -1, -7, 1, 4, 5, -BIG]),
     ]),
+    (origins.refused_at, [ROW, MOVES]),
+    (origins.is_start, [ROW, MOVES, VALUE]),
+    (plans.fewest_moves, [ROW, OTHER_ROW]),
+    (plans.count_plans, [ROW, OTHER_ROW]),
+    (plans.nth_plan, [
+        ("row", A, errors.InvalidRowError, NOT_ROWS),
+        ("other_row", [4, 3, 2], errors.InvalidRowError, NOT_ROWS + OTHER_LENGTHS),
+        ("index", 4, errors.InvalidNumberError, NOT_INTEGERS + [-1, -6, 6, 7, BIG, -BIG]),
+    ]),
+    (plans.plan_rank, [ROW, MOVES]),
+    (plans.is_plan, [ROW, OTHER_ROW, VALUE]),
+    (plans.sliders_kept, [ROW, OTHER_ROW]),
+    (logs.is_log, [VALUE]),
+    (logs.moves_of, [LOG]),
+    (logs.fewest_in, [LOG]),
+    (logs.log_of, [ROW, MOVES]),
 ]
+
+MOVE_LIST = lists.MoveList(3, *T)
+METHOD_CALLS = [(MOVE_LIST.back, [FULL_ROW]), (MOVE_LIST.__call__, [FULL_ROW])]
 
 
 def raised_by(call, *values, **named):
     """The class of the error that a call raises, None if it raises none."""
+    error = raised_error(call, *values, **named)
+    return None if error is None else error.__class__
+
+
+def raised_error(call, *values, **named):
+    """The error that a call raises, None if it raises none."""
     try:
         call(*values, **named)
     except Exception as error:
-        return error.__class__
+        return error
     return None
 
 

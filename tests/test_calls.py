@@ -5,15 +5,19 @@ import unittest
 from copy import deepcopy
 from itertools import product
 
-from sliders import moves, rows, tables
+from sliders import lists, logs, moves, origins, plans, rows, tables
 from sliders.errors import InvalidMovesError, InvalidRowError
-from support import A, CALLS, NOT_MOVES, T, answer, raised_by, walked
+from support import A, CALLS, METHOD_CALLS, MOVE_LIST, NOT_MOVES, T, answer, raised_by, walked
 
 LISTED = {
     rows: ["is_row", "row_with", "share_of", "shares_of", "row_of", "ratio_of"],
     moves: ["is_move", "is_moves", "moved", "row_after", "walk_rows", "merged"],
     tables: ["table_of", "do_same", "parting_row", "is_parting", "forgotten", "are_alike"],
+    origins: ["origin_of", "start_with", "refused_at", "is_start"],
+    plans: ["fewest_moves", "count_plans", "nth_plan", "plan_rank", "is_plan", "sliders_kept"],
+    logs: ["is_log", "moves_of", "fewest_in", "log_of"],
 }
+ALL_CALLS = CALLS + METHOD_CALLS
 
 
 def lists_in(value):
@@ -38,18 +42,28 @@ class Interface(unittest.TestCase):
                     self.assertTrue(inspect.isfunction(function))
                     self.assertEqual(function.__module__, module.__name__)
 
+    def test_each_method_is_defined_in_its_class(self):
+        self.assertEqual(lists.MoveList.__module__, "sliders.lists")
+        own = vars(lists.MoveList)
+        for name in ("__init__", "__add__", "__mul__", "__eq__", "__contains__", "__len__", "__call__", "back"):
+            with self.subTest(name):
+                self.assertTrue(inspect.isfunction(own[name]))
+        for name in ("sliders", "moves", "table"):
+            with self.subTest(name):
+                self.assertIsInstance(own[name], property)
+
     def test_each_listed_function_is_in_the_table_of_calls(self):
         called = {call.__name__ for call, _ in CALLS} - {"walked"} | {"walk_rows"}
         self.assertEqual(called, {name for names in LISTED.values() for name in names})
 
     def test_parameter_names(self):
-        for call, parameters in CALLS:
+        for call, parameters in ALL_CALLS:
             function = moves.walk_rows if call is walked else call
             with self.subTest(function.__name__):
                 self.assertEqual(list(inspect.signature(function).parameters), [part[0] for part in parameters])
 
     def test_by_position_and_by_name(self):
-        for call, parameters in CALLS:
+        for call, parameters in ALL_CALLS:
             with self.subTest(call.__name__):
                 expected = answer(call, goods(parameters))
                 named = {name: deepcopy(good) for name, good, _, _ in reversed(parameters)}
@@ -61,12 +75,12 @@ class Interface(unittest.TestCase):
 
 class Errors(unittest.TestCase):
     def test_good_arguments_raise_nothing(self):
-        for call, parameters in CALLS:
+        for call, parameters in ALL_CALLS:
             with self.subTest(call.__name__):
                 self.assertIsNone(raised_by(call, *goods(parameters)))
 
     def test_each_wrong_argument_alone(self):
-        for call, parameters in CALLS:
+        for call, parameters in ALL_CALLS:
             for at, (name, _, error, wrongs) in enumerate(parameters):
                 for wrong in wrongs:
                     values = goods(parameters)
@@ -75,7 +89,7 @@ class Errors(unittest.TestCase):
                         self.assertIs(raised_by(call, *values), error)
 
     def test_the_first_of_several_wrong_arguments_counts(self):
-        for call, parameters in CALLS:
+        for call, parameters in ALL_CALLS:
             checked = [part for part in parameters if part[2] is not None]
             for kinds in product((False, True), repeat=len(checked)):
                 if not any(kinds):
@@ -108,7 +122,7 @@ class Errors(unittest.TestCase):
 
 class Copies(unittest.TestCase):
     def test_arguments_stay_as_they_are(self):
-        for call, parameters in CALLS:
+        for call, parameters in ALL_CALLS:
             for at, (name, _, _, wrongs) in enumerate(parameters):
                 for value in [parameters[at][1]] + wrongs:
                     values = goods(parameters)
@@ -125,9 +139,14 @@ class Copies(unittest.TestCase):
             (moves.moved, [[2, 1, 1], (0, 1, 2)]), (moves.merged, [[]]), (moves.merged, [T]),
             (walked, [[1, 2], []]), (walked, [[2, 1, 1], [(0, 1, 2), (0, 1, 2)]]),
             (tables.table_of, [3, []]), (tables.parting_row, [2, [], [(0, 1, 2)]]),
+            (origins.origin_of, [[1, 2], []]), (origins.origin_of, [[4, 3, 2], [(0, 4, 9)]]),
+            (origins.start_with, [[2, 1, 1], [(0, 1, 2)], 1, 2]), (plans.nth_plan, [A, A, 0]),
+            (plans.nth_plan, [A, [2, 1, 1], 0]), (plans.sliders_kept, [A, A]), (logs.moves_of, [[A]]),
+            (logs.moves_of, [[A, A]]), (logs.log_of, [A, []]), (logs.log_of, [[2, 1, 1], [(0, 1, 2), (0, 1, 2)]]),
+            (lists.MoveList(2), [[1, 2]]), (lists.MoveList(2).back, [[1, 2]]), (MOVE_LIST, [[4, 3, 2]]),
         ]
-        for call, values in more + [(call, goods(parameters)) for call, parameters in CALLS]:
-            with self.subTest(call.__name__, values=values):
+        for call, values in more + [(call, goods(parameters)) for call, parameters in ALL_CALLS]:
+            with self.subTest(str(call), values=values):
                 expected = deepcopy(call(*values))
                 result = call(*values)
                 found = [id(part) for part in lists_in(result)]

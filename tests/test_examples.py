@@ -25,6 +25,34 @@ EXAMPLES = {
 >>> [do_same(3, T, T[::-1]), is_parting(T, T[::-1], parting_row(3, T, T[::-1])), do_same(2, [(0, 1, 3)], [(1, 2, 3)])]
 [False, True, True]
 """,
+    "[14] lists": """
+>>> from sliders.lists import MoveList
+>>> one, other = MoveList(3, (0, 1, 2)), MoveList(3, (1, 1, 3))
+>>> [(one + other)([1, 1, 1]), one + one == one, one + other == other + one, len(other * 3), (one + other).back([4, 3, 2])]
+[[4, 3, 2], True, False, 3, [None, 1, 1]]
+""",
+    "[17] origins": """
+>>> from sliders.origins import is_start, origin_of, refused_at, start_with
+>>> T = [(0, 1, 2), (1, 1, 3)]
+>>> [origin_of([4, 3, 2], T), start_with([4, 3, 2], T, 5, 7), is_start([4, 3, 2], T, [9, 1, 1])]
+[[None, 1, 1], [5, 1, 1], True]
+>>> [origin_of([2, 3, 4], T), refused_at([2, 3, 4], T), refused_at([4, 3, 1], T), refused_at([4, 3, 2], T)]
+[None, 0, 1, None]
+""",
+    "[18] plans": """
+>>> from sliders.plans import count_plans, fewest_moves, is_plan, nth_plan, plan_rank, sliders_kept
+>>> A, B = [1, 1, 1], [4, 3, 2]
+>>> [fewest_moves(A, B), count_plans(A, B), nth_plan(A, B, 0), nth_plan(A, B, 2), sliders_kept(A, B)]
+[2, 6, [(0, 1, 2), (1, 1, 3)], [(1, 3, 7), (0, 4, 9)], [[0], [1], [2]]]
+>>> [plan_rank(A, [(2, 1, 5), (1, 1, 3)]), is_plan(A, B, [(0, 1, 2)]), fewest_moves([2, 1, 1], [6, 1, 1])]
+[5, False, 1]
+""",
+    "[19] logs": """
+>>> from sliders.logs import fewest_in, is_log, log_of, moves_of
+>>> log = log_of([1, 1, 1], [(0, 1, 2), (1, 1, 3)])
+>>> [log, moves_of(log), moves_of([[1, 1, 1], [1, 1, 1]]), fewest_in([[1, 1, 1], [4, 3, 2]]), is_log([[1, 2]])]
+[[[1, 1, 1], [2, 1, 1], [4, 3, 2]], [(0, 1, 2), (1, 1, 3)], [None], 2, False]
+""",
 }
 
 
