@@ -38,9 +38,7 @@ def row_of(shares):
     """Return the row with these shares."""
     if not are_fractions(shares):
         raise InvalidSharesError("shares are a list of 2 to 8 tuples of two integers from 1 on")
-    whole = 1
-    for share in shares:
-        whole = lcm(whole, share[1])
+    whole = common_multiple([bottom for _, bottom in shares])
     weights = [top * (whole // bottom) for top, bottom in shares]
     if sum(weights) != whole:
         raise InvalidSharesError("the shares do not add up to 1")
@@ -105,6 +103,14 @@ def common_divisor(numbers):
     for number in numbers:
         common = gcd(common, number)
     return common
+
+
+def common_multiple(numbers):
+    """Return the least common multiple of the numbers."""
+    multiple = 1
+    for number in numbers:
+        multiple = lcm(multiple, number)
+    return multiple
 
 
 def reduced(numbers):

@@ -5,7 +5,7 @@ from fractions import Fraction
 from itertools import product
 from math import gcd
 
-from sliders import errors, lists, logs, moves, origins, plans, rows, tables
+from sliders import boards, errors, lists, logs, moves, origins, plans, rounds, rows, tables, text, trials
 
 BIG = 10 ** 30 + 57
 BIGGER = 10 ** 31 - 1
@@ -49,6 +49,44 @@ NOT_LOGS = NOT_INTEGERS + [
     [A] * 42, [[4, 3, 2]] * 43, [A, [1, 1, "1"]], [[1.0, 1, 1]],
 ]
 OTHER_LENGTHS = [[1, 1], [1, 2, 3, 4]]
+NOT_ROUNDS = NOT_THREE_MOVES + [
+    [], [(0, 1, 2), (0, 1, 2)], [(0, 1, 2), (0, 1, 3)], [(1, 1, 5), (0, 1, 2), (1, 1, 3)],
+    [(0, 1, 5), (1, 1, 5), (2, 1, 5)], [(2, 1, 2), (0, 1, 2), (1, 1, 2)], [(0, 1, 2)] * 40,
+]
+NOT_TIMES = NOT_INTEGERS + [-1, -12, 13, 14, BIG, -BIG]
+NOT_LOCKS_OF_FOUR = [value for value in NOT_INTEGERS if type(value) is not list] + [
+    0, 2, (2,), (0, 1), "2", {2: True}, [4], [-1], [-4], [0, 4], [BIG], [0, 1, 2], [0, 1, 2, 3], [1, 1], [2, 0, 2],
+    [True], [False], [2, True], [False, 3], [None], [1, None], ["1"], [1.0], [[1]], [(1,)], [0] * 400, [[]],
+]
+NOT_STEPS = NOT_INTEGERS + [-10, 0, 1, -2, 1001, 1002, BIG, [10], "10"]
+NOT_ITEMS = [value for value in NOT_INTEGERS if type(value) is not list] + [
+    0, 3, (0, 1, 2), ((0, 1, 2),), "0=1/2", {0: (0, 1, 2)}, [(0, 1, 2)] * 41, [None] * 41, [(9, 9, 9)] * 400,
+]
+NOT_STRINGS = [value for value in NOT_INTEGERS if type(value) is not str] + [
+    0, 12, [4, 3, 2], ["1:2"], b"1:2", ("1:2",),
+]
+NOT_NUMBER_WORDS = [
+    "", " ", "01", "00", "007", "+1", "-1", "--1", "1.0", "1e3", "1_0", "0x1", "0b1", "a", "1a", "one", "#", ".",
+    " 1", "1 ", "\t1", "1\n", "\n1", "1,0", "\u0661", "\u00b2", "\u00b9", "\uff11", "\u0967", "1\u0662", "\u2460",
+    "\u00bd", "\u4e00", "\ud800", "1" * 32, "9" * 40, "9" * 2000, "0" * 31, "0" * 32, "0" + "1" * 30, "0" + "1" * 31,
+]
+NOT_ROW_TEXTS = NOT_STRINGS + [
+    "", "1", "4", ":", "::", ":1:2", "1:2:", "1::2", "1:2::", " 1:2", "1:2 ", "1 :2", "1: 2", "1 2", "1;2", "1/2",
+    "1-2", "2:4", "3:3:3", "0:1", "1:0", "0:0", "1:2:0", ":".join(["1"] * 9), ":".join(["1"] * 400), "[1, 2]", "1,2",
+    "1:2\n", "0=1/2", "\n", "1:2\n1:2",
+] + [word + ":2" for word in NOT_NUMBER_WORDS] + ["3:2:" + word for word in NOT_NUMBER_WORDS]
+NOT_MOVES_TEXTS = NOT_STRINGS + [
+    " ", "  ", "\n", " 0=1/2", "0=1/2 ", "0=1/2  1=1/3", "0=1/2\n1=1/3", "0=1/2\t1=1/3", "0=1/2,1=1/3", "0=1/2 1=1/3 ",
+    "0 =1/2", "0= 1/2", "0=1 /2", "0=1/ 2", "0", "0=", "0=1", "0=1/", "=1/2", "0=/2", "1/2", "0/1=2", "0:1/2", "0==1/2",
+    "0=1//2", "0=1=1/2", "0=1/2/3", "0=1/2=", "=0=1/2", "0=1/2 x", "x 0=1/2", "(0, 1, 2)", "1:2", "/=", "=/", "=",
+    "8=1/2", "9=1/2", "10=1/2", "1111111111=1/2", "0=2/4", "0=6/9", "0=2/2", "0=1/1", "0=3/2", "0=0/1", "0=0/2",
+    "0=1/0", "0=0/0", " ".join(["0=1/2"] * 41), " ".join(["0=1/2"] * 42), " ".join(["0=1/2"] * 40) + " ", "0=1/2 8=1/2",
+    "0=1/2 0=2/4", "0=1/2 0=1/1",
+] + [
+    form.replace("N", word)
+    for form in ("N=1/2", "0=N/" + "9" * 31, "0=1/N", "0=1/2 0=1/N") for word in NOT_NUMBER_WORDS
+]
+NOT_WIDTHS = NOT_INTEGERS + [0, -1, -10, 101, 102, 1000, BIG, -BIG, "10", [10]]
 
 ENDLESS = []
 ENDLESS.append(ENDLESS)
@@ -77,6 +115,9 @@ VALUE = ("value", [4, 3, 2], None, [])
 FULL_ROW = ("row", [4, 3, 2], errors.InvalidRowError, NOT_ROWS + OTHER_LENGTHS)
 OTHER_ROW = ("other_row", [5, 3, 2], errors.InvalidRowError, NOT_ROWS + OTHER_LENGTHS)
 LOG = ("log", [A, [2, 1, 1], [4, 3, 2]], errors.InvalidLogError, NOT_LOGS)
+ROUND = ("moves", T, errors.InvalidRoundError, NOT_ROUNDS)
+BOARD = ("board", boards.Board([4, 3, 2]), None, [])
+ITEMS = ("moves", T, errors.InvalidMovesError, NOT_ITEMS)
 
 
 def walked(*values, **named):
@@ -129,10 +170,35 @@ CALLS = [
     (logs.moves_of, [LOG]),
     (logs.fewest_in, [LOG]),
     (logs.log_of, [ROW, MOVES]),
+    (rounds.after_rounds, [ROW, ROUND, ("times", 2, errors.InvalidNumberError, NOT_TIMES)]),
+    (rounds.is_steady, [ROW, ROUND]),
+    (rounds.limit_of, [ROW, ROUND]),
+    (trials.row_in_trial, [BOARD, ITEMS]),
+    (trials.passed, [BOARD, ITEMS]),
+    (text.format_row, [ROW]),
+    (text.format_moves, [ANY_MOVES]),
+    (text.parse_row, [("text", "4:3:2", errors.InvalidFormatError, NOT_ROW_TEXTS)]),
+    (text.parse_moves, [("text", "0=1/2 1=1/3", errors.InvalidFormatError, NOT_MOVES_TEXTS)]),
+    (text.bars, [ROW, ("width", 10, errors.InvalidNumberError, NOT_WIDTHS)]),
+]
+
+FOUR = ("row", [4, 3, 2, 1], errors.InvalidRowError, NOT_ROWS)
+LOCKED = ("locked", [2, 0], errors.InvalidLocksError, NOT_LOCKS_OF_FOUR)
+STEPS = ("steps", 10, errors.InvalidNumberError, NOT_STEPS)
+CLASS_CALLS = [
+    (boards.Board, [FOUR]),
+    (boards.LockedBoard, [FOUR, LOCKED]),
+    (boards.StepBoard, [FOUR, STEPS]),
+    (boards.LockedStepBoard, [FOUR, LOCKED, STEPS]),
+    (trials.Trial, [BOARD]),
 ]
 
 MOVE_LIST = lists.MoveList(3, *T)
-METHOD_CALLS = [(MOVE_LIST.back, [FULL_ROW]), (MOVE_LIST.__call__, [FULL_ROW])]
+METHOD_CALLS = [
+    (MOVE_LIST.back, [FULL_ROW]),
+    (MOVE_LIST.__call__, [FULL_ROW]),
+    (boards.Board([4, 3, 2]).shows, [("slider", 1, errors.InvalidSliderError, NOT_SLIDERS_OF_THREE)]),
+]
 
 
 def raised_by(call, *values, **named):
@@ -190,6 +256,23 @@ def shares_behind(shares, some_moves):
         factor = (1 - share) / (1 - shares[slider])
         shares = [share if at == slider else old * factor for at, old in enumerate(shares)]
     return shares
+
+
+def locked_shares_behind(shares, move, locked):
+    """The shares behind a move on a board with locked sliders, by the words of [22] alone."""
+    slider, top, bottom = move
+    still = [at for at in range(len(shares)) if at != slider and at not in locked]
+    left = 1 - Fraction(top, bottom) - sum(shares[at] for at in locked)
+    factor = left / sum(shares[at] for at in still)
+    changed = [shares[at] * factor if at in still else shares[at] for at in range(len(shares))]
+    changed[slider] = Fraction(top, bottom)
+    return changed
+
+
+def state_of(board):
+    """All that a board shows."""
+    shown = [board.shows(slider) for slider in range(len(board.row))]
+    return [board.__class__, board.first_row, board.row, board.done, len(board), shown, board.described()]
 
 
 def fractions_of(row):

@@ -5,9 +5,10 @@ import unittest
 from copy import deepcopy
 from itertools import product
 
-from sliders import lists, logs, moves, origins, plans, rows, tables
+from sliders import boards, lists, logs, moves, origins, plans, rounds, rows, tables, text, trials
+from sliders.boards import Board
 from sliders.errors import InvalidMovesError, InvalidRowError
-from support import A, CALLS, METHOD_CALLS, MOVE_LIST, NOT_MOVES, T, answer, raised_by, walked
+from support import A, CALLS, CLASS_CALLS, METHOD_CALLS, MOVE_LIST, NOT_MOVES, T, answer, raised_by, state_of, walked
 
 LISTED = {
     rows: ["is_row", "row_with", "share_of", "shares_of", "row_of", "ratio_of"],
@@ -16,8 +17,28 @@ LISTED = {
     origins: ["origin_of", "start_with", "refused_at", "is_start"],
     plans: ["fewest_moves", "count_plans", "nth_plan", "plan_rank", "is_plan", "sliders_kept"],
     logs: ["is_log", "moves_of", "fewest_in", "log_of"],
+    rounds: ["after_rounds", "is_steady", "limit_of"],
+    trials: ["row_in_trial", "passed"],
+    text: ["format_row", "format_moves", "parse_row", "parse_moves", "bars"],
 }
-ALL_CALLS = CALLS + METHOD_CALLS
+# For each class of the interface: its file, its methods, and its properties.
+CLASSES = {
+    lists.MoveList: (
+        "sliders.lists",
+        ["__init__", "__add__", "__mul__", "__eq__", "__contains__", "__len__", "__call__", "back"],
+        ["sliders", "moves", "table"],
+    ),
+    boards.Board: (
+        "sliders.boards",
+        ["__init__", "slide", "tried", "undo", "shows", "twin", "described", "__len__", "__eq__"],
+        ["first_row", "row", "done"],
+    ),
+    boards.LockedBoard: ("sliders.boards", ["__init__", "described"], []),
+    boards.StepBoard: ("sliders.boards", ["__init__", "described"], []),
+    boards.LockedStepBoard: ("sliders.boards", ["__init__", "described"], []),
+    trials.Trial: ("sliders.trials", ["__init__", "__enter__", "__exit__", "begin", "finish"], []),
+}
+ALL_CALLS = CALLS + CLASS_CALLS + METHOD_CALLS
 
 
 def lists_in(value):
@@ -27,6 +48,16 @@ def lists_in(value):
     if isinstance(value, (list, tuple)):
         for item in value:
             yield from lists_in(item)
+
+
+def comparable(result):
+    """A result as a value that equals that of an equal call: trials do not compare."""
+    return state_of(result.begin()) if isinstance(result, trials.Trial) else result
+
+
+def shown(values):
+    """Values as strings that tell whether they have changed."""
+    return [repr(state_of(value)) if isinstance(value, Board) else repr(value) for value in values]
 
 
 def goods(parameters):
@@ -43,14 +74,22 @@ class Interface(unittest.TestCase):
                     self.assertEqual(function.__module__, module.__name__)
 
     def test_each_method_is_defined_in_its_class(self):
-        self.assertEqual(lists.MoveList.__module__, "sliders.lists")
-        own = vars(lists.MoveList)
-        for name in ("__init__", "__add__", "__mul__", "__eq__", "__contains__", "__len__", "__call__", "back"):
-            with self.subTest(name):
-                self.assertTrue(inspect.isfunction(own[name]))
-        for name in ("sliders", "moves", "table"):
-            with self.subTest(name):
-                self.assertIsInstance(own[name], property)
+        for own_class, (module, methods, properties) in CLASSES.items():
+            self.assertEqual(own_class.__module__, module)
+            own = vars(own_class)
+            for name in methods:
+                with self.subTest(own_class.__name__ + "." + name):
+                    self.assertTrue(inspect.isfunction(own[name]))
+            for name in properties:
+                with self.subTest(own_class.__name__ + "." + name):
+                    self.assertIsInstance(own[name], property)
+
+    def test_parameter_names_of_the_methods_of_boards(self):
+        self.assertEqual(list(inspect.signature(Board([1, 2]).slide).parameters), ["slider", "top", "bottom"])
+        for name in ("undo", "twin", "described"):
+            self.assertEqual(list(inspect.signature(getattr(Board([1, 2]), name)).parameters), [])
+        for name in ("begin", "finish"):
+            self.assertEqual(list(inspect.signature(getattr(trials.Trial(Board([1, 2])), name)).parameters), [])
 
     def test_each_listed_function_is_in_the_table_of_calls(self):
         called = {call.__name__ for call, _ in CALLS} - {"walked"} | {"walk_rows"}
@@ -67,10 +106,10 @@ class Interface(unittest.TestCase):
             with self.subTest(call.__name__):
                 expected = answer(call, goods(parameters))
                 named = {name: deepcopy(good) for name, good, _, _ in reversed(parameters)}
-                self.assertEqual(call(**named), expected)
+                self.assertEqual(comparable(call(**named)), comparable(expected))
                 for first in range(1, len(parameters)):
                     late = {name: deepcopy(good) for name, good, _, _ in parameters[first:]}
-                    self.assertEqual(call(*goods(parameters)[:first], **late), expected)
+                    self.assertEqual(comparable(call(*goods(parameters)[:first], **late)), comparable(expected))
 
 
 class Errors(unittest.TestCase):
@@ -90,17 +129,15 @@ class Errors(unittest.TestCase):
 
     def test_the_first_of_several_wrong_arguments_counts(self):
         for call, parameters in ALL_CALLS:
-            checked = [part for part in parameters if part[2] is not None]
-            for kinds in product((False, True), repeat=len(checked)):
+            for kinds in product(*[(False,) if part[2] is None else (False, True) for part in parameters]):
                 if not any(kinds):
                     continue
-                expected = next(part[2] for part, wrong in zip(checked, kinds) if wrong)
+                expected = next(part[2] for part, wrong in zip(parameters, kinds) if wrong)
                 for turn in range(0, 40, 3):
                     values = [
                         part[3][(turn * (at + 1)) % len(part[3])] if wrong else part[1]
-                        for at, (part, wrong) in enumerate(zip(checked, kinds))
+                        for at, (part, wrong) in enumerate(zip(parameters, kinds))
                     ]
-                    values += goods(parameters[len(checked):])
                     with self.subTest(call.__name__, values=values):
                         self.assertIs(raised_by(call, *values), expected)
 
@@ -130,7 +167,7 @@ class Copies(unittest.TestCase):
                     before = deepcopy(values)
                     raised_by(call, *values)
                     with self.subTest(call.__name__, name=name, value=value):
-                        self.assertEqual(repr(values), repr(before))
+                        self.assertEqual(shown(values), shown(before))
 
     def test_returned_lists_are_new(self):
         more = [
@@ -144,8 +181,12 @@ class Copies(unittest.TestCase):
             (plans.nth_plan, [A, [2, 1, 1], 0]), (plans.sliders_kept, [A, A]), (logs.moves_of, [[A]]),
             (logs.moves_of, [[A, A]]), (logs.log_of, [A, []]), (logs.log_of, [[2, 1, 1], [(0, 1, 2), (0, 1, 2)]]),
             (lists.MoveList(2), [[1, 2]]), (lists.MoveList(2).back, [[1, 2]]), (MOVE_LIST, [[4, 3, 2]]),
+            (rounds.after_rounds, [A, T, 0]), (rounds.limit_of, [[3, 2, 1], T]),
+            (rounds.after_rounds, [[3, 2, 1], T, 1]),
+            (trials.row_in_trial, [Board(A), []]), (text.parse_moves, [""]), (text.parse_row, ["1:2"]),
+            (Board(A).tried, []), (Board(A).tried, T), (Board(A).described, []),
         ]
-        for call, values in more + [(call, goods(parameters)) for call, parameters in ALL_CALLS]:
+        for call, values in more + [(call, goods(parameters)) for call, parameters in CALLS + METHOD_CALLS]:
             with self.subTest(str(call), values=values):
                 expected = deepcopy(call(*values))
                 result = call(*values)

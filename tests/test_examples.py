@@ -53,6 +53,37 @@ EXAMPLES = {
 >>> [log, moves_of(log), moves_of([[1, 1, 1], [1, 1, 1]]), fewest_in([[1, 1, 1], [4, 3, 2]]), is_log([[1, 2]])]
 [[[1, 1, 1], [2, 1, 1], [4, 3, 2]], [(0, 1, 2), (1, 1, 3)], [None], 2, False]
 """,
+    "[20] rounds": """
+>>> from sliders.rounds import after_rounds, is_steady, limit_of
+>>> A, T = [1, 1, 1], [(0, 1, 2), (1, 1, 3)]
+>>> [after_rounds(A, T, 1), after_rounds(A, T, 2), limit_of(A, T), is_steady([3, 2, 1], T), limit_of(A, [(0, 1, 2), (1, 1, 2)])]
+[[4, 3, 2], [10, 7, 4], [3, 2, 1], True, None]
+""",
+    "[22] boards": """
+>>> from sliders.boards import Board, LockedBoard, LockedStepBoard
+>>> board, locked = Board([1, 1, 1]), LockedBoard([1, 1, 2], [2])
+>>> [board.slide(0, 1, 2), board.slide(1, 1, 3), board.tried((2, 1, 2)), board.shows(1), board.undo(), board.row, board.done]
+[[2, 1, 1], [4, 3, 2], [4, 3, 7], (1, 3), None, [2, 1, 1], [(0, 1, 2)]]
+>>> [locked.slide(0, 1, 3), locked.shows(2), LockedStepBoard([1, 1, 2], [2], 100).described()]
+[[2, 1, 3], (1, 2), ['sliders 3', 'locked 1', 'steps 100']]
+""",
+    "[23] trials": """
+>>> from sliders.boards import Board, StepBoard
+>>> from sliders.trials import Trial, passed, row_in_trial
+>>> board = Board([1, 1, 1])
+>>> trial = Trial(board)
+>>> [trial.begin() == board, board.slide(0, 1, 2), trial.finish(), board.row]
+[True, [2, 1, 1], [(0, 1, 2)], [1, 1, 1]]
+>>> [row_in_trial(board, [(0, 1, 2), (1, 1, 3)]), passed(StepBoard([1, 1, 1], 10), [(0, 1, 2), (1, 1, 3)]), len(board)]
+[[4, 3, 2], 1, 0]
+""",
+    "[24] text": """
+>>> from sliders.text import bars, format_moves, format_row, parse_moves, parse_row
+>>> [format_row([4, 3, 2]), parse_row("1:2"), format_moves([(0, 1, 2), (1, 1, 3)]), parse_moves("1=2/3")]
+['4:3:2', [1, 2], '0=1/2 1=1/3', [(1, 2, 3)]]
+>>> bars([4, 3, 2], 10)
+['0 ####......', '1 ###.......', '2 ##........']
+""",
 }
 
 
